@@ -1,0 +1,1 @@
+"""Ken: what is known, and how it grows."""
