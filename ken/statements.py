@@ -26,6 +26,23 @@ def pieces(statement):
     return found
 
 
+def folded(statement, of_simple, of_pair):
+    """What is told of the statement when one goes from its letters outwards.
+
+    of_simple(piece) tells of a letter, or of what can't be; of_pair(kind, first, second) of a statement by
+    what was told of its two ones.
+    """
+    told = []
+    for piece in reversed(pieces(statement)):
+        if piece[0] in PAIRED:
+            first = told.pop()
+            second = told.pop()
+            told.append(of_pair(piece[0], first, second))
+        else:
+            told.append(of_simple(piece))
+    return told[0]
+
+
 def parts(statement):
     """How many parts the statement has, counted as often as they stand in it."""
     return len(pieces(statement))

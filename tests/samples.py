@@ -65,3 +65,58 @@ def counted(statement):
     parts_a, deep_a, words_a = counted(statement[1])
     parts_b, deep_b, words_b = counted(statement[2])
     return 1 + parts_a + parts_b, 1 + max(deep_a, deep_b), words_a | words_b
+
+
+def random_worlds(chance, many, words=("a", "b", "c")):
+    """Good worlds, so many; few letters at first, more of them later."""
+    worlds = [(None, sorted(word for word in words if chance.random() < 0.1))]
+    for number in range(1, many):
+        before = chance.randrange(number) if chance.random() < 0.7 else number - 1
+        more = {word for word in words if chance.random() < 0.25}
+        worlds.append((before, sorted(more | set(worlds[before][1]))))
+    return worlds
+
+
+def row_of_worlds(many, word_from):
+    """Good worlds, each one behind the last; a word is known from the world that word_from tells on."""
+    return [(number - 1 if number else None, sorted(word for word in word_from if number >= word_from[word]))
+            for number in range(many)]
+
+
+def is_later(worlds, one, other):
+    """Whether other is one, or stands somewhere behind it."""
+    while other is not None and other != one:
+        other = worlds[other][0]
+    return other == one
+
+
+def known_at(worlds, world, statement):
+    """Whether the statement is known at the world, as the words of the document tell it."""
+    kind = statement[0]
+    if kind == "low":
+        return False
+    if kind == "letter":
+        return statement[1] in worlds[world][1]
+    if kind == "both":
+        return known_at(worlds, world, statement[1]) and known_at(worlds, world, statement[2])
+    if kind == "one":
+        return known_at(worlds, world, statement[1]) or known_at(worlds, world, statement[2])
+    return all(known_at(worlds, other, statement[2]) for other in range(len(worlds))
+               if is_later(worlds, world, other) and known_at(worlds, other, statement[1]))
+
+
+def is_true(statement, trues):
+    """Whether the statement is plainly true, as the words of the document tell it."""
+    kind = statement[0]
+    if kind == "low":
+        return False
+    if kind == "letter":
+        return statement[1] in trues
+    one, other = is_true(statement[1], trues), is_true(statement[2], trues)
+    return {"both": one and other, "one": one or other, "then": (not one) or other}[kind]
+
+
+def small_statements(words):
+    """All statements of at most three parts of these words."""
+    simple = [LOW] + [("letter", word) for word in words]
+    return simple + [(kind, one, other) for kind in PAIRED for one in simple for other in simple]
