@@ -78,6 +78,21 @@ def spelled(statement):
     return tuple([text for piece in pieces(statement) for text in piece if isinstance(text, str)])
 
 
+def compared(one, other):
+    """A number below 0 where the one is sorted ahead of the other, 0 where they are the same, else above 0."""
+    waiting = [(one, other)]
+    while waiting:
+        first, second = waiting.pop()
+        if first[0] != second[0]:
+            return -1 if first[0] < second[0] else 1
+        if first[0] in PAIRED:
+            waiting.append((first[2], second[2]))
+            waiting.append((first[1], second[1]))
+        elif first != second:
+            return -1 if first < second else 1
+    return 0
+
+
 def once(some):
     """The statements, sorted, each once."""
     by_spelling = {spelled(statement): statement for statement in some}

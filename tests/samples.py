@@ -120,3 +120,102 @@ def small_statements(words):
     """All statements of at most three parts of these words."""
     simple = [LOW] + [("letter", word) for word in words]
     return simple + [(kind, one, other) for kind in PAIRED for one in simple for other in simple]
+
+
+def random_question(chance, words, total=24):
+    """Wishes and a goal of at most so many parts in all, of these words."""
+    goal = few_words(chance, chance.choice([many for many in (1, 1, 3, 5, 9, 15, 23) if many <= total]), words)
+    left = total - counted(goal)[0]
+    wishes = []
+    while left > 0 and chance.random() < 0.85:
+        wish = few_words(chance, chance.choice([many for many in (1, 3, 3, 5, 7, 11, 19) if many <= left]), words)
+        wishes.append(wish)
+        left -= counted(wish)[0]
+    return wishes, goal
+
+
+def few_words(chance, parts, words):
+    """A statement of just this odd number of parts, of these words."""
+    if parts == 1:
+        return LOW if chance.random() < 0.12 else ("letter", chance.choice(words))
+    first = chance.randrange(1, parts - 1, 2)
+    kind = chance.choice(("both", "one", "then", "then"))
+    return (kind, few_words(chance, first, words), few_words(chance, parts - 1 - first, words))
+
+
+def lists_in(thing):
+    """All lists that stand in a thing, itself too."""
+    found = [thing] if isinstance(thing, list) else []
+    if isinstance(thing, (list, tuple)):
+        for inner in thing:
+            found.extend(lists_in(inner))
+    return found
+
+
+def own_lists(*things):
+    """Whether no list stands in these things twice."""
+    found = [id(one) for thing in things for one in lists_in(thing)]
+    return len(found) == len(set(found))
+
+
+def in_order(some):
+    """The statements sorted as Python sorts tuples, each once."""
+    return sorted(set(some))
+
+
+FREE_RULES = ("wish", "low", "both", "first", "second", "then")
+RULES = FREE_RULES + ("parts", "cases", "known", "curried", "either", "idle", "chain", "use")
+
+
+def told_needs(rule, wishes, goal, on):
+    """The needs as the words of the document tell them, or None where the rule can't stand so."""
+    if rule not in RULES or (on is None) != (rule in FREE_RULES) or (on is not None and on not in wishes):
+        return None
+    if rule in ("wish", "low"):
+        return [] if (goal if rule == "wish" else LOW) in wishes else None
+    if on is None:
+        kind = {"both": "both", "first": "one", "second": "one", "then": "then"}[rule]
+        if goal[0] != kind:
+            return None
+        same = in_order(wishes)
+        return {"both": [(same, goal[1]), (list(same), goal[2])], "first": [(same, goal[1])],
+                "second": [(same, goal[2])], "then": [(in_order(wishes + [goal[1]]), goal[2])]}[rule]
+
+    def with_these(*some):
+        return in_order([wish for wish in wishes if wish != on] + list(some))
+
+    if rule in ("parts", "cases"):
+        if on[0] != {"parts": "both", "cases": "one"}[rule]:
+            return None
+        if rule == "parts":
+            return [(with_these(on[1], on[2]), goal)]
+        return [(with_these(on[1]), goal), (with_these(on[2]), goal)]
+    if on[0] != "then":
+        return None
+    first, last = on[1], on[2]
+    if rule == "known":
+        return [(with_these(last), goal)] if first in wishes else None
+    if rule == "use":
+        return [(in_order(wishes), first), (in_order(wishes + [last]), goal)]
+    if first[0] != {"curried": "both", "either": "one", "idle": "low", "chain": "then"}[rule]:
+        return None
+    if rule == "idle":
+        return [(with_these(), goal)]
+    one, other = first[1], first[2]
+    return {"curried": [(with_these(("then", one, ("then", other, last))), goal)],
+            "either": [(with_these(("then", one, last), ("then", other, last)), goal)],
+            "chain": [(with_these(("then", other, last)), first), (with_these(last), goal)]}[rule]
+
+
+def first_bad_line(lines):
+    """The number of the first bad line as the words of the document tell it; None where all are good ones."""
+    for number, (rule, wishes, goal, on, leans) in enumerate(lines):
+        if wishes != in_order(wishes):
+            return number
+        needed = told_needs(rule, wishes, goal, on)
+        if needed is None or len(leans) != len(needed) or any(not 0 <= lean < number for lean in leans):
+            return number
+        for lean, (needed_wishes, needed_goal) in zip(leans, needed):
+            if lines[lean][2] != needed_goal or not set(lines[lean][1]) <= set(needed_wishes) | set(wishes):
+                return number
+    return None if lines else 0
