@@ -219,3 +219,210 @@ def first_bad_line(lines):
             if lines[lean][2] != needed_goal or not set(lines[lean][1]) <= set(needed_wishes) | set(wishes):
                 return number
     return None if lines else 0
+
+
+def told_kind(term, given):
+    """The kind as the words of the document tell it, or None where there is none."""
+    form = term[0]
+    if form == "at":
+        return given[term[1]] if 0 <= term[1] < len(given) else None
+    if form == "fun":
+        kind = told_kind(term[2], [term[1]] + given)
+        return kind and ("then", term[1], kind)
+    if form == "cases":
+        kind = told_kind(term[1], given)
+        if kind is None or kind[0] != "one":
+            return None
+        one, other = told_kind(term[2], [kind[1]] + given), told_kind(term[3], [kind[2]] + given)
+        return one if one == other else None
+    first = told_kind(term[1], given)
+    if first is None:
+        return None
+    if form in ("left", "right"):
+        return first[1 if form == "left" else 2] if first[0] == "both" else None
+    if form in ("first", "second"):
+        return ("one", first, term[2]) if form == "first" else ("one", term[2], first)
+    if form == "off":
+        return term[2] if first == LOW else None
+    second = told_kind(term[2], given)
+    if second is None:
+        return None
+    if form == "pair":
+        return ("both", first, second)
+    return first[2] if first[0] == "then" and first[1] == second else None
+
+
+def inner_terms(term):
+    """The terms within this one, at once, in their order."""
+    return [term[place] for place in {"at": (), "pair": (1, 2), "left": (1,), "right": (1,), "first": (1,),
+                                      "second": (1,), "cases": (1, 2, 3), "fun": (2,), "use": (1, 2),
+                                      "off": (1,)}[term[0]]]
+
+
+def counted_term(term):
+    """Its parts and its depth, by a call within a call."""
+    inner = [counted_term(one) for one in inner_terms(term)]
+    return 1 + sum(parts for parts, deep in inner), 1 + max((deep for parts, deep in inner), default=0)
+
+
+def random_term(chance, given, size, words="ab"):
+    """A term of some size that has a kind by what is given (some statement), and this kind."""
+    if size <= 1:
+        k = chance.randrange(len(given))
+        return ("at", k), given[k]
+
+    def some(more=(), share=2):
+        return random_term(chance, list(more) + given, (size - 1) // share, words)
+
+    other = few_words(chance, chance.choice((1, 1, 3)), words)
+    form = chance.choice(("pair", "side", "side", "one", "cases", "cases", "fun", "use", "use", "off", "known"))
+    if form == "pair":
+        (one, one_kind), (two, two_kind) = some(), some()
+        return ("pair", one, two), ("both", one_kind, two_kind)
+    if form == "side":
+        term, kind = some(share=1)
+        if kind[0] != "both":
+            two, two_kind = some(share=8)
+            term, kind = ("pair", term, two), ("both", kind, two_kind)
+        return (("left", term), kind[1]) if chance.random() < 0.5 else (("right", term), kind[2])
+    if form == "one":
+        term, kind = some(share=1)
+        if chance.random() < 0.5:
+            return ("first", term, other), ("one", kind, other)
+        return ("second", term, other), ("one", other, kind)
+    if form == "cases":
+        term, kind = some(share=3)
+        if kind[0] != "one":
+            term, kind = (("first", term, other), ("one", kind, other)) if chance.random() < 0.5 else (
+                ("second", term, other), ("one", other, kind))
+        (one, one_kind), (two, two_kind) = some([kind[1]], 3), some([kind[2]], 3)
+        if one_kind == two_kind:
+            return ("cases", term, one, two), one_kind
+        return (("cases", term, ("first", one, two_kind), ("second", two, one_kind)), ("one", one_kind, two_kind))
+    if form == "fun":
+        term, kind = some([other], 1)
+        return ("fun", other, term), ("then", other, kind)
+    if form == "use":
+        two, two_kind = some()
+        term, kind = some([two_kind])
+        return ("use", ("fun", two_kind, term), two), kind
+    if form == "off" and LOW in given:
+        return ("off", ("at", given.index(LOW)), other), other
+    ifs = [k for k, one in enumerate(given) if one[0] == "then"]
+    if ifs:
+        k = chance.choice(ifs)
+        if given[k][1] in given:
+            return ("use", ("at", k), ("at", given.index(given[k][1]))), given[k][2]
+    return some(share=1)
+
+
+def with_names(term, names, fresh):
+    """The term with names in the place of numbers, each "fun" and each of the "cases" bearing its own name."""
+    form = term[0]
+    if form == "at":
+        return ("at", names[term[1]])
+    if form == "fun":
+        fresh.append(f"own{len(fresh)}")
+        own = fresh[-1]
+        return ("fun", term[1], own, with_names(term[2], [own] + names, fresh))
+    if form == "cases":
+        fresh.extend([f"own{len(fresh)}", f"own{len(fresh) + 1}"])
+        one, two = fresh[-2:]
+        return ("cases", with_names(term[1], names, fresh), one, with_names(term[2], [one] + names, fresh),
+                two, with_names(term[3], [two] + names, fresh))
+    inner = [with_names(one, names, fresh) for one in inner_terms(term)]
+    return (form, *inner, *term[1 + len(inner):])
+
+
+def with_numbers(named, names, name, other):
+    """The term of what with_names told, with what is named other in the place of the name."""
+    form = named[0]
+    if form == "at":
+        return with_numbers(other, names, None, None) if named[1] == name else ("at", names.index(named[1]))
+    if form == "fun":
+        return ("fun", named[1], with_numbers(named[3], [named[2]] + names, name, other))
+    if form == "cases":
+        return ("cases", with_numbers(named[1], names, name, other),
+                with_numbers(named[3], [named[2]] + names, name, other),
+                with_numbers(named[5], [named[4]] + names, name, other))
+    return (form, *[with_numbers(one, names, name, other) if one[0] in TERM_FORMS else one for one in named[1:]])
+
+
+TERM_FORMS = ("at", "pair", "left", "right", "first", "second", "cases", "fun", "use", "off")
+
+
+def told_put(term, other):
+    """t [a], told by names: no name is there twice, so that what is put in stays as it is."""
+    given = [f"given{number}" for number in range(200)]
+    fresh = []
+    named = with_names(term, ["front"] + given, fresh)
+    return with_numbers(named, given, "front", with_names(other, given, fresh))
+
+
+def come_to(lines, number):
+    """How many lines are come to from this one, as often as it is, and how many stand on the longest way."""
+    inner = [come_to(lines, lean) for lean in lines[number][4]]
+    return 1 + sum(many for many, way in inner), 1 + max((way for many, way in inner), default=0)
+
+
+def random_lines(chance, many, rules=RULES, near=8, words="ab"):
+    """Good lines, so many, by these rules, each leaning on some of those near; mostly on ones with few wishes."""
+    lines = [random_line(chance, [], "wish", near, words)]
+    while len(lines) < many:
+        lines.append(random_line(chance, lines, chance.choice(rules), near, words))
+    return lines
+
+
+def random_line(chance, lines, rule, near, words):
+    """A good line by this rule that may stand behind these."""
+    free = [few_words(chance, chance.choice((1, 1, 3)), words) for number in range(3)]
+    if rule in ("wish", "low"):
+        goal = free[0]
+        return (rule, in_order(free[:chance.randrange(1, 4)] + ([LOW] if rule == "low" else [])), goal, None, [])
+    fits = [number for number in range(len(lines)) if rule != "chain" or lines[number][2][0] == "then"]
+    if not fits:
+        return random_line(chance, lines, "wish", near, words)
+    one, two = chance.choice(fits[-near:]), chance.randrange(max(0, len(lines) - near), len(lines))
+    wishes, goal = lines[one][1:3]
+    others, last = lines[two][1:3]
+    first, second, third = [chance.choice(wishes + free[:1]) for number in range(3)]
+    of_two = chance.choice(others + free[:1])
+
+    def line(on, new, same, leans, end, some=wishes):
+        kept = [wish for wish in some if wish not in new or chance.random() < 0.2]
+        put = chance.sample(free, 1) if chance.random() < 0.2 else []
+        return (rule, in_order(kept + list(same) + put + ([on] if on else [])), end, on, leans)
+
+    if rule == "both":
+        return line(None, [], others, [one, two], ("both", goal, last))
+    if rule in ("first", "second"):
+        return line(None, [], [], [one], ("one", goal, free[1]) if rule == "first" else ("one", free[1], goal))
+    if rule == "then":
+        return line(None, [first], [], [one], ("then", first, goal))
+    if rule == "parts":
+        return line(("both", first, second), [first, second], [], [one], goal)
+    if rule == "cases":
+        two = chance.choice([number for number in range(len(lines)) if lines[number][2] == goal])
+        other = chance.choice(lines[two][1] + free[:1])
+        on = ("one", first, other)
+        return line(on, [], [wish for wish in lines[two][1] if wish != other], [one, two], goal,
+                    [wish for wish in wishes if wish != first])
+    if rule == "known":
+        return line(("then", second, first), [first], [second], [one], goal)
+    if rule == "curried":
+        ifs = [wish for wish in wishes if wish[0] == "then" and wish[2][0] == "then"]
+        stated = chance.choice(ifs or [("then", first, ("then", second, third))])
+        on = ("then", ("both", stated[1], stated[2][1]), stated[2][2])
+        return line(on, [stated], [], [one], goal)
+    if rule == "either":
+        ifs = [wish for wish in wishes if wish[0] == "then"]
+        stated = chance.choice(ifs or [("then", first, second)])
+        on = ("then", ("one", stated[1], third), stated[2])
+        return line(on, [stated, ("then", third, stated[2])], [], [one], goal)
+    if rule == "idle":
+        return line(("then", LOW, first), [], [], [one], goal)
+    kept = [wish for wish in others if wish != of_two]
+    if rule == "use":
+        return line(("then", goal, of_two), [], kept, [one, two], last)
+    stated = ("then", goal[2], of_two)
+    return line(("then", goal, of_two), [stated], kept, [one, two], last)
