@@ -1,4 +1,4 @@
-"""Lines: whether each of them is a good one."""
+"""Lines: whether each of them is a good one, and which of them lean on which."""
 
 from ken.errors import NoLine, NoRule
 from ken.rules import needs
@@ -44,3 +44,13 @@ def check(lines):
         if not is_good(lines, number):
             raise NoLine(number)
     return True
+
+
+def come_to(lines, last):
+    """The numbers of the lines that are come to from this one by what they lean on, itself too, rising."""
+    found = {last: True}
+    for number in range(last, -1, -1):
+        if number in found:
+            for lean in lines[number][4]:
+                found[lean] = True
+    return sorted(found)

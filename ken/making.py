@@ -6,6 +6,7 @@ not among the line's wishes but is needed is put in front, by "fun", and what sh
 put into each place where it is asked, it would make terms too great.
 """
 
+from ken.lines import come_to
 from ken.statements import LOW, compared
 from ken.terms import changed
 from ken.wishes import place
@@ -138,21 +139,12 @@ DEEDS = {
 }
 
 
-def come_to(lines):
-    """The numbers of the lines that are come to from the last one, rising."""
-    found = {len(lines) - 1: True}
-    for number in reversed(range(len(lines))):
-        if number in found:
-            for lean in lines[number][4]:
-                found[lean] = True
-    return sorted(found)
-
-
 def term_of(lines):
     """A term that has the last line's goal as its kind, by the last line's wishes; the lines are good ones."""
+    last = len(lines) - 1
     terms = {}
-    for number in come_to(lines):
+    for number in come_to(lines, last):
         line = lines[number]
         deed = DEEDS[line[0]]
         terms[number] = deed(line, [(terms[lean], lines[lean][1]) for lean in line[4]])
-    return terms[len(lines) - 1]
+    return terms[last]

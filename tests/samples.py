@@ -2,12 +2,34 @@
 
 import random
 
+from ken import errors
+from ken.texts import read
+
 LOW = ("low",)
 A = ("letter", "a")
 B = ("letter", "b")
 C = ("letter", "c")
 PAIRED = ("both", "one", "then")
 WORDS = ("a", "b", "c", "ab", "abc", "abcdefgh", "z", "zzzzzzzz", "low", "one", "both", "then", "letter")
+
+
+def refused_with(test, error, deed, *things):
+    """The refusal, which is a KenError and a ValueError, and of no other class of the program's."""
+    with test.assertRaises(error) as caught:
+        deed(*things)
+    test.assertIsInstance(caught.exception, errors.KenError)
+    test.assertIsInstance(caught.exception, ValueError)
+    others = [other for other in vars(errors).values()
+              if isinstance(other, type) and other not in (error, errors.KenError)]
+    test.assertEqual(len(others), 10)
+    for other in others:
+        test.assertNotIsInstance(caught.exception, other)
+    return caught.exception
+
+
+def some_read(texts):
+    """The statements of these texts, which are parted as the desk parts them, in this order."""
+    return [read(text) for text in texts.split("; ")] if texts else []
 
 
 def random_statement(chance, parts, deep=40):
@@ -357,6 +379,26 @@ def told_put(term, other):
     fresh = []
     named = with_names(term, ["front"] + given, fresh)
     return with_numbers(named, given, "front", with_names(other, given, fresh))
+
+
+def told_turns(term):
+    """What the term itself turns to, as the words of the document tell it, or None."""
+    if term[0] in ("left", "right") and term[1][0] == "pair":
+        return term[1][1 if term[0] == "left" else 2]
+    if term[0] == "use" and term[1][0] == "fun":
+        return told_put(term[1][2], term[2])
+    if term[0] == "cases" and term[1][0] in ("first", "second"):
+        return told_put(term[2 if term[1][0] == "first" else 3], term[1][1])
+    return None
+
+
+def told_turnings(term):
+    """Whole terms: what comes of the term by each of its turnings, in their order."""
+    told = [] if told_turns(term) is None else [told_turns(term)]
+    for place, inner in enumerate(term):
+        if place > 0 and isinstance(inner, tuple) and any(inner is one for one in inner_terms(term)):
+            told.extend(term[:place] + (turned,) + term[place + 1:] for turned in told_turnings(inner))
+    return told
 
 
 def come_to(lines, number):

@@ -12,12 +12,7 @@ from ken.tables import row_against
 from ken.texts import read
 from ken.worlds import known, look
 from samples import (C, LOW, few_words, first_bad_line, in_order, known_at, own_lists, random_question,
-                     random_worlds, small_statements)
-
-
-def some(texts):
-    """The statements of these texts, in this order."""
-    return [read(text) for text in texts.split("; ")] if texts else []
+                     random_worlds, small_statements, some_read)
 
 
 SHOWN = [
@@ -72,11 +67,11 @@ class Decide(unittest.TestCase):
 
     def test_what_is_shown(self):
         for wishes, goal in SHOWN:
-            self.assertIs(self.look_at(some(wishes), read(goal)), True, (wishes, goal))
+            self.assertIs(self.look_at(some_read(wishes), read(goal)), True, (wishes, goal))
 
     def test_what_is_open(self):
         for wishes, goal in OPEN:
-            self.assertIs(self.look_at(some(wishes), read(goal)), False, (wishes, goal))
+            self.assertIs(self.look_at(some_read(wishes), read(goal)), False, (wishes, goal))
 
     def test_all_small_statements(self):
         small = small_statements(["a", "b"])
@@ -125,7 +120,7 @@ class Decide(unittest.TestCase):
             ("", "~~(((a | ~a) & (b | ~b)) & (c | ~c))"),
             ("~~~~~~~~~~a", "a"), ("~~~~~~~~~~a", "~~a"), ("~~~~~~~~~a", "~a"),
         ]:
-            self.look_at(some(wishes), read(goal))
+            self.look_at(some_read(wishes), read(goal))
 
     def test_somewhat_beyond(self):
         chance = random.Random(3)
@@ -150,7 +145,7 @@ class Decide(unittest.TestCase):
 
     def test_every_order(self):
         for wishes, goal in (("(a | b); (a > c); (b > c); ~d", "c"), ("(a | b); (a > c); (b > d); ~d", "d")):
-            told = {self.look_at(list(order), read(goal)) for order in itertools.permutations(some(wishes))}
+            told = {self.look_at(list(order), read(goal)) for order in itertools.permutations(some_read(wishes))}
             self.assertEqual(len(told), 1)
 
     def test_a_wish_that_stands_there_often_counts_once(self):
@@ -159,20 +154,20 @@ class Decide(unittest.TestCase):
         self.assertIs(self.look_at([read("(a & ~a)")] * 20000, read("b")), True)
 
     def test_long_words_and_words_like_kinds(self):
-        self.assertIs(self.look_at(some("abcdefgh; (abcdefgh > low)"), read("low")), True)
-        self.assertIs(self.look_at(some("low"), read("abcdefgh")), False)
-        self.assertIs(self.look_at(some("(low | then); (one > both)"), LOW), False)
+        self.assertIs(self.look_at(some_read("abcdefgh; (abcdefgh > low)"), read("low")), True)
+        self.assertIs(self.look_at(some_read("low"), read("abcdefgh")), False)
+        self.assertIs(self.look_at(some_read("(low | then); (one > both)"), LOW), False)
 
     def test_what_came_in_stays(self):
         for wishes, goal in SHOWN + OPEN:
-            came = some(wishes) + some(wishes)[:1]
+            came = some_read(wishes) + some_read(wishes)[:1]
             before = list(came)
             decide(came, read(goal))
             self.assertEqual(came, before)
 
     def test_changes_show_nowhere(self):
         for wishes, goal in SHOWN + OPEN:
-            came = some(wishes)
+            came = some_read(wishes)
             kind, answer = decide(came, read(goal))
             kept = copy.deepcopy(answer)
             again = decide(came, read(goal))
@@ -186,8 +181,8 @@ class Decide(unittest.TestCase):
             answer.clear()
             came.append(LOW)
             self.assertEqual(again[1], kept)
-            self.assertEqual(decide(some(wishes), read(goal))[0], kind)
-            self.look_at(some(wishes), read(goal))
+            self.assertEqual(decide(some_read(wishes), read(goal))[0], kind)
+            self.look_at(some_read(wishes), read(goal))
 
     def test_forms_of_what_is_told(self):
         chance = random.Random(6)

@@ -3,21 +3,13 @@
 import random
 import unittest
 
-from ken import errors
-from ken.errors import KenError, NoKind
+from ken.errors import NoKind
 from ken.kinds import kind, term_deep, term_parts
 from ken.texts import read
 from samples import (A, B, C, LOW, counted_term, few_words, full, greatest, inner_terms, ladder, random_term,
-                     told_kind)
+                     refused_with, some_read, told_kind)
 
 AT = [("at", number) for number in range(6)]
-OTHER_ERRORS = [error for error in vars(errors).values()
-                if isinstance(error, type) and error not in (KenError, NoKind)]
-
-
-def some(texts):
-    """The statements of these texts, in this order."""
-    return [read(text) for text in texts.split("; ")] if texts else []
 
 
 # The given statements, the term, its kind.
@@ -110,27 +102,18 @@ def around(term):
 
 class Refusals(unittest.TestCase):
     def refused(self, term, given):
-        """It is refused with NoKind and no other class."""
-        with self.assertRaises(NoKind) as caught:
-            kind(term, given)
-        self.assertIsInstance(caught.exception, KenError)
-        self.assertIsInstance(caught.exception, ValueError)
-        for other in OTHER_ERRORS:
-            self.assertNotIsInstance(caught.exception, other)
-
-    def test_there_are_other_errors(self):
-        self.assertEqual(len(OTHER_ERRORS), 10)
+        refused_with(self, NoKind, kind, term, given)
 
     def test_terms_without_a_kind(self):
         for texts, term in WITHOUT_A_KIND:
-            given = some(texts)
+            given = some_read(texts)
             self.assertIsNone(told_kind(term, given), (texts, term))
             for again in range(2):
                 self.refused(term, given)
-                self.assertEqual(given, some(texts))
+                self.assertEqual(given, some_read(texts))
 
     def test_deep_within_others(self):
-        given = some("(a | a); a; 0")
+        given = some_read("(a | a); a; 0")
         for term in (("left", AT[0]), ("at", 40), ("at", -1), ("use", AT[0], AT[0]), ("off", AT[0], A),
                      ("cases", AT[0], AT[0], ("pair", AT[0], AT[0]))):
             for one in around(term):
@@ -190,10 +173,10 @@ def broken_term(chance, term):
 class Kinds(unittest.TestCase):
     def test_terms_with_a_kind(self):
         for texts, term, text in WITH_A_KIND:
-            given = some(texts)
+            given = some_read(texts)
             for again in range(2):
                 self.assertEqual(kind(term, given), read(text), (texts, term))
-                self.assertEqual(given, some(texts))
+                self.assertEqual(given, some_read(texts))
 
     def test_each_form_is_among_them(self):
         self.assertEqual({row[1][0] for row in WITH_A_KIND},
@@ -201,7 +184,7 @@ class Kinds(unittest.TestCase):
 
     def test_more_given_behind_change_nothing(self):
         for texts, term, text in WITH_A_KIND:
-            self.assertEqual(kind(term, some(texts) + [LOW, A]), read(text))
+            self.assertEqual(kind(term, some_read(texts) + [LOW, A]), read(text))
 
     def test_many(self):
         chance = random.Random(2)

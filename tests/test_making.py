@@ -11,12 +11,7 @@ from ken.making import term_of
 from ken.rules import needs
 from ken.texts import read
 from samples import (A, B, C, LOW, RULES, come_to, counted_term, first_bad_line, in_order, random_lines,
-                     random_question, told_kind)
-
-
-def some(texts):
-    """The statements of these texts, in this order."""
-    return [read(text) for text in texts.split("; ")] if texts else []
+                     random_question, some_read, told_kind)
 
 
 # A rule, wishes, a goal and on, such that the goal of each need is one of its wishes.
@@ -71,7 +66,7 @@ class Making(unittest.TestCase):
     def test_each_rule(self):
         self.assertEqual({row[0] for row in BY_RULE}, set(RULES))
         for rule, texts, goal, on in BY_RULE:
-            wishes, goal, on = in_order(some(texts)), read(goal), on and read(on)
+            wishes, goal, on = in_order(some_read(texts)), read(goal), on and read(on)
             needed = needs(rule, wishes, goal, on)
             # With just the needed wishes, with the one alone that is needed, with all that may be there.
             for wishes_of in (lambda need: need[0], lambda need: [need[1]], lambda need: in_order(need[0] + wishes),
@@ -82,7 +77,7 @@ class Making(unittest.TestCase):
 
     def test_each_rule_with_what_cannot_be(self):
         for rule, texts, goal, on in BY_RULE:
-            wishes, goal, on = in_order(some(texts) + [LOW]), read(goal), on and read(on)
+            wishes, goal, on = in_order(some_read(texts) + [LOW]), read(goal), on and read(on)
             needed = needs(rule, wishes, goal, on)
             lines = [("low", [LOW], need[1], None, []) for need in needed]
             self.look_at(lines + [(rule, wishes, goal, on, list(range(len(needed))))])
