@@ -10,7 +10,7 @@ from samples import (A, B, C, LOW, counted_term, few_words, full, greatest, inne
                      refused_with, some_read, told_kind)
 
 AT = [("at", number) for number in range(6)]
-
+SAME = ("fun", A, AT[0])
 
 # The given statements, the term, its kind.
 WITH_A_KIND = [
@@ -35,6 +35,12 @@ WITH_A_KIND = [
     ("~a; a", ("use", AT[0], AT[1]), "0"), ("((a > b) > b); (a > b)", ("use", AT[0], AT[1]), "b"),
     ("0", ("off", AT[0], A), "a"), ("0", ("off", AT[0], LOW), "0"), ("b; 0", ("off", AT[1], ("both", A, A)), "(a & a)"),
     ("~a; a", ("off", ("use", AT[0], AT[1]), C), "c"),
+    # Nothing is given.
+    ("", ("pair", SAME, ("fun", B, AT[0])), "((a > a) & (b > b))"), ("", ("left", ("pair", SAME, SAME)), "(a > a)"),
+    ("", ("right", ("pair", SAME, ("fun", LOW, AT[0]))), "~0"), ("", ("first", SAME, B), "((a > a) | b)"),
+    ("", ("second", SAME, B), "(b | (a > a))"), ("", ("cases", ("first", SAME, B), AT[0], SAME), "(a > a)"),
+    ("", ("use", ("fun", read("(a > a)"), ("pair", AT[0], AT[0])), SAME), "((a > a) & (a > a))"),
+    ("", ("fun", LOW, ("off", AT[0], A)), "(0 > a)"),
     # One within another: each puts one statement more in front.
     ("(a | (b | c))", ("cases", AT[0], ("second", AT[0], ("one", B, C)),
                        ("cases", AT[0], ("first", ("first", AT[0], C), A), ("first", ("second", AT[0], B), A))),
@@ -186,6 +192,14 @@ class Kinds(unittest.TestCase):
         for texts, term, text in WITH_A_KIND:
             self.assertEqual(kind(term, some_read(texts) + [LOW, A]), read(text))
 
+    def test_what_is_given_may_be_put_in_front(self):
+        for texts, term, text in WITH_A_KIND:
+            statement = read(text)
+            for one in some_read(texts):
+                term, statement = ("fun", one, term), ("then", one, statement)
+            self.assertEqual(kind(term, []), statement)
+            self.assertEqual(kind(term, [C, LOW]), statement)
+
     def test_many(self):
         chance = random.Random(2)
         for number in range(1500):
@@ -280,9 +294,19 @@ class Sizes(unittest.TestCase):
             term = ("left", ("pair", term, AT[0])) if number % 3 else ("pair", AT[1], ("first", term, A))
         self.assertEqual(term_parts(term), 1000)
         self.assertEqual(term_deep(term), 667)
-        wide = full(9, "use", AT[0])
-        wide = ("pair", wide, ("left", ("cases", AT[0], full(8, "pair", AT[0]), ("fun", A, full(8, "use", AT[0])))))
+        wide = ("cases", AT[0], full(7, "pair", AT[0]), ("fun", A, full(8, "use", AT[0])))
+        wide = ("pair", ("use", full(8, "use", AT[0]), full(8, "pair", AT[0])), ("left", wide))
+        self.assertEqual(counted_term(wide), (898, 12))
         self.assertEqual((term_parts(wide), term_deep(wide)), counted_term(wide))
+
+    def test_a_thousand_parts_and_120_deep(self):
+        rest, kind_of_rest = AT[0], A
+        for number in range(118):
+            rest, kind_of_rest = (("pair", AT[0], rest), ("both", A, kind_of_rest)) if number < 113 else (
+                ("right", rest), kind_of_rest[2])
+        term = ("pair", full(9, "pair", ("first", AT[0], B)), rest)
+        self.assertEqual((term_parts(term), term_deep(term)), (1000, 120))
+        self.assertEqual(kind(term, [A]), ("both", full(9, "both", ("one", A, B)), kind_of_rest))
 
     def test_just_as_deep_as_there_may_be(self):
         for form in (lambda term: ("fun", A, term), lambda term: ("pair", AT[0], term), lambda term: ("left", term),
