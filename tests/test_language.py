@@ -96,6 +96,47 @@ class Language(unittest.TestCase):
                 if isinstance(node, ast.Name) and hasattr(builtins, node.id):
                     self.assertIn(node.id, OWN_NAMES, name)
 
+    def test_no_local_is_called_like_an_import_or_a_class(self):
+        for name, source, tree in self.each():
+            taken = {row.name for row in tree.body if isinstance(row, ast.ClassDef)}
+            taken |= {each.name for row in tree.body if isinstance(row, ast.ImportFrom) for each in row.names}
+            self.assertEqual(taken & set(given_in(tree)), set(), name)
+            defs = [node for node in ast.walk(tree) if isinstance(node, ast.FunctionDef)]
+            inner = {node.name for node in defs if node not in tree.body}
+            self.assertEqual(taken & inner, set(), name)
+
+    def test_no_name_is_a_method_and_a_value(self):
+        methods, values = set(), set()
+        for name, source, tree in self.each():
+            for node in ast.walk(tree):
+                if isinstance(node, ast.ClassDef):
+                    methods |= {row.name for row in node.body if isinstance(row, ast.FunctionDef)}
+                if isinstance(node, ast.Attribute) and isinstance(node.ctx, ast.Store):
+                    values.add(node.attr)
+        self.assertIn("say", methods)
+        self.assertIn("wishes", values)
+        self.assertEqual(methods & values, set())
+
+    def test_imports(self):
+        """Each name is drawn from the file that defines it, is used, and no two files draw from one another."""
+        trees = {f"ken.{name[:-3]}": tree for name, source, tree in self.each()}
+        draws = {}
+        for module, tree in trees.items():
+            rows = [row for row in tree.body if isinstance(row, ast.ImportFrom)]
+            draws[module] = {row.module for row in rows}
+            used = {node.id for node in ast.walk(tree) if isinstance(node, ast.Name)}
+            for row in rows:
+                there = trees[row.module].body
+                defined = {one.name for one in there if isinstance(one, (ast.FunctionDef, ast.ClassDef))}
+                defined |= {target.id for one in there if isinstance(one, ast.Assign) for target in one.targets}
+                drawn = {each.name for each in row.names}
+                self.assertLessEqual(drawn, defined & used, (module, row.module))
+        while draws:
+            ends = [module for module in draws if not draws[module] & set(draws)]
+            self.assertTrue(ends, draws)
+            for module in ends:
+                del draws[module]
+
 
 if __name__ == "__main__":
     unittest.main()
